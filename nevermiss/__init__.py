@@ -1,0 +1,1 @@
+"""Nevermiss: rules of keys that miss no near text."""
