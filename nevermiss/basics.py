@@ -13,6 +13,11 @@ def is_whole(value):
     return isinstance(value, int) and not isinstance(value, bool)
 
 
+def is_natural(value):
+    """Whether a value is an integer from 0."""
+    return is_whole(value) and value >= 0
+
+
 def are_signs(word):
     """Whether a word can be the signs of a machine."""
     if len(word) < 1 or len(word) > MOST_SIGNS:

@@ -32,10 +32,12 @@ BARRED_WORDS = re.compile(r"\b(type|typing|typing_extensions|enum|Enum|IntEnum|S
                           r"contextmanager|\(type\)|Meta|metaclass=|_wall\b|_WallAttr")
 DUNDERS = set("""__init__ __eq__ __repr__ __str__ __len__ __enter__ __exit__ __call__ __iter__ __lt__ __le__ __gt__ __ge__
     __ne__ __contains__ __getitem__ __setitem__ __bool__""".split())
+LIBRARY = {"heapq": {"heappush", "heappop", "heapify", "heapreplace", "heappushpop"}}
 STATEMENTS = (ast.Assign, ast.AugAssign, ast.If, ast.While, ast.For, ast.Return, ast.Break, ast.Continue, ast.Pass,
               ast.Raise, ast.Assert, ast.Delete, ast.Try, ast.Expr, ast.FunctionDef, ast.ClassDef, ast.ImportFrom,
               ast.Nonlocal)
 VALUES = (int, str, bool, type(None))
+PLAIN = (ast.Constant, ast.BinOp, ast.operator, ast.UnaryOp, ast.USub, ast.Tuple, ast.List, ast.Dict, ast.Load)
 
 
 def bound_names(tree):
@@ -94,7 +96,11 @@ class Form(unittest.TestCase):
             needs[path.stem] = []
             top = True
             for at, node in enumerate(tree.body):
-                if isinstance(node, ast.ImportFrom):
+                if isinstance(node, ast.ImportFrom) and node.module in LIBRARY:
+                    names = {alias.name for alias in node.names if alias.asname is None}
+                    self.right(top and len(names) == len(node.names), path, node, "L2")
+                    self.right(names <= LIBRARY[node.module], path, node, "L2: the library")
+                elif isinstance(node, ast.ImportFrom):
                     self.right(top and node.level == 0 and node.module.startswith("nevermiss."), path, node, "L2")
                     needs[path.stem].append(node.module.split(".", 1)[1])
                     target = PACKAGE / (node.module.split(".", 1)[1] + ".py")
@@ -124,7 +130,8 @@ class Form(unittest.TestCase):
                     self.right(isinstance(node.value, ast.Constant), path, node, "L3")
                 elif isinstance(node, ast.Assign):
                     self.right(len(node.targets) == 1 and isinstance(node.targets[0], ast.Name), path, node, "L3")
-                    ast.literal_eval(node.value)
+                    for part in ast.walk(node.value):
+                        self.right(isinstance(part, PLAIN), path, node, "L3: a plain value")
                     names.append(node.targets[0].id)
                 else:
                     self.right(isinstance(node, (ast.ImportFrom, ast.FunctionDef, ast.ClassDef)), path, node, "L3")
@@ -186,6 +193,26 @@ class Form(unittest.TestCase):
                     if isinstance(node.ctx, ast.Store):
                         self.right(node.attr not in BARRED_ATTRIBUTES | BARRED_NAMES, path, node, "L26: " + node.attr)
 
+    def test_stars_and_lambdas(self):
+        for path, text, tree in self.each():
+            lines = [node.lineno for node in ast.walk(tree) if isinstance(node, ast.Lambda)]
+            self.assertEqual(len(lines), len(set(lines)), msg="L13: two lambdas on a line of %s" % path.name)
+            for node in ast.walk(tree):
+                if isinstance(node, ast.Call):
+                    for part in node.args:
+                        plain = isinstance(part, ast.Starred) and isinstance(part.value, (ast.Name, ast.Attribute))
+                        self.right(not isinstance(part, ast.Starred) or plain, path, node, "L7: behind a star")
+
+    def test_names_of_methods_and_attributes(self):
+        methods, stored = {}, {}
+        for path, text, tree in self.each():
+            for node in ast.walk(tree):
+                if isinstance(node, ast.ClassDef):
+                    methods.update({part.name: part for part in node.body if isinstance(part, ast.FunctionDef)})
+                if isinstance(node, ast.Attribute) and isinstance(node.ctx, ast.Store):
+                    stored[node.attr] = node
+        self.assertEqual(set(methods) & set(stored), set(), msg="L18: a method and an attribute")
+
     def test_sets(self):
         for path, text, tree in self.each():
             allowed = set()
@@ -232,6 +259,10 @@ class Form(unittest.TestCase):
             "parts": ["heads", "tails", "sized", "counted", "pieces", "lightest", "folded", "beside", "holding",
                       "renamed"],
             "rules": ["Rule", "Rule.shared", "Rule.meets", "Rule.narrowed", "Rule.turned", "Rule.__eq__"],
+            "edits": ["Edits", "Edits.plain", "Edits.turned", "Edits.texts", "Edits.weighed", "Edits.__eq__"],
+            "sure": ["Bad", "Sure", "sure", "is_bad", "is_sure", "Lowest", "lowest", "is_lowest"],
+            "longest": ["Longest", "Endless", "longest", "is_longest"],
+            "choice": ["Meetings", "meetings", "least_count", "is_meetings", "Covers", "covers", "is_covers"],
         }
         for path, text, tree in self.each():
             own = set()
