@@ -39,7 +39,6 @@ def asked(rule, edits, given, wanted):
     if len(given) > MOST_GIVEN:
         raise TooMany("given")
     if wanted is None:
-        check_keys(rule, given)
         wanted = [key for key in rule.all_keys if key not in given]
     check_keys(rule, [*given, *wanted])
     return Question(Ground(rule, edits), given, wanted)

@@ -179,6 +179,16 @@ class MeetingsJudged(unittest.TestCase):
             lists = [(list(keys), oracle.as_lists(tree))]
             self.check(BOTH, PLAIN, 0, right.met, right.enough[:at] + lists + right.enough[at + 1:], True)
 
+    def test_a_set_that_is_met_but_no_least_one(self):
+        right = meetings(BOTH, PLAIN, 1)
+        self.assertEqual([keys for keys, _ in right.met], [("f", "n0"), ("n1",)])
+        for keys, columns in ((("fa", "n1"), ("a",)), (("fb", "n1"), ("b", "a"))):
+            self.assertEqual(oracle.shared(BOTH, PLAIN, columns), set(keys))
+            self.check(BOTH, PLAIN, 1, sorted(right.met + [(keys, columns)]), right.enough, False)
+        bare = meetings(BOTH, PLAIN, 9)
+        self.check(BOTH, PLAIN, 9, bare.met, bare.enough, True)
+        self.check(BOTH, PLAIN, 9, bare.met + [(("n1",), (0,))], bare.enough, False)
+
     def test_wrong_columns(self):
         edits = Edits("ab", [("a", "b", 1), ("b", "a", 2), ("", "ab", 0)])
         rule = Rule(beside(pieces("ab", 1), tails("ab", 1)))

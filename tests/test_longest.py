@@ -271,6 +271,13 @@ class Judged(unittest.TestCase):
             wide = ("leaf", tuple([(p, q, flags, c, None if room is None else room + more) for p, q, flags, c, room in nodes]))
             self.assertIs(is_longest(rule, edits, 5, Longest(3, columns, wide)), more == 0)
 
+    def test_many_is_an_integer(self):
+        rule, edits = Rule(sized("ab", 1)), Edits("ab", [("a", "", 1)])
+        right = longest(rule, edits, 1)
+        self.assertEqual(right.many, 1)
+        for many, told in ((1, True), (True, False), (None, False), (0, False), (False, False), (2, False), (-1, False)):
+            self.assertIs(is_longest(rule, edits, 1, Longest(many, right.columns, right.tree)), told)
+
     def test_dead_nodes(self):
         rule, edits = Rule(sized("ab", 0)), Edits("ab", [("a", "", 4)])
         for nodes, told in ((((0, 0, (), 0, None),), True), (((0, 0, (), 0, 0),), False), (((0, 0, (), 0, 5),), False),

@@ -103,6 +103,21 @@ class Told(unittest.TestCase):
             self.assertEqual(paper.weight, None if weight is None else weight * great)
             self.assertTrue(is_lowest(Rule(left, right), Edits("a", rows), paper, given=("e",)))
 
+    def test_ways_through_many_pairs_of_states(self):
+        # Each sign column, and each other edit, leads one of the machines astray: what is left weighs each time.
+        great = 10 ** 30
+        for many, other, weight in ((7, 9, 62), (5, 6, 29), (2, 3, 5), (15, 14, 209), (4, 6, 11)):
+            left = Machine("ab", [[((at + 1) % many, []), (many, [])] for at in range(many)] + [[(many, [])] * 2],
+                           [["w"]] * (many - 1) + [["e", "w"], ["w"]])
+            right = Machine("ab", [[(other, []), ((at + 1) % other, [])] for at in range(other)] + [[(other, [])] * 2],
+                            [["w"]] * (other - 1) + [["e"], ["w"]])
+            rule, edits = Rule(left, right), Edits("ab", [("a", "b", great)])
+            paper = lowest(rule, edits, given=("e",))
+            self.assertEqual(paper.weight, weight * great)
+            self.assertTrue(is_lowest(rule, edits, paper, given=("e",)))
+            if weight < 70:
+                self.assertTrue(is_right(rule, edits, paper, ("e",), None, weight * great))
+
     def test_equal_calls(self):
         for rule, edits, _, given, wanted in oracle.questions(24, 60):
             one = lowest(rule, edits, given=given, wanted=wanted)
@@ -152,7 +167,8 @@ class Judged(unittest.TestCase):
                                             (None, None, right.tree, False), (None, None, None, False),
                                             (1, list(right.columns), oracle.as_lists(right.tree), True),
                                             (2, right.columns, right.tree, False), (0, right.columns, None, False),
-                                            (1, (), right.tree, False), (0, (), None, False)):
+                                            (1, (), right.tree, False), (0, (), None, False),
+                                            (True, right.columns, right.tree, False)):
             self.assertIs(is_lowest(rule, edits, Lowest(weight, columns, tree)), told)
         rule = Rule(sized("ab", 0))
         right = lowest(rule, edits)
