@@ -157,6 +157,31 @@ class Told(unittest.TestCase):
             self.check(Rule(machine, closed), edits, 2)
             self.check(Rule(closed, other), edits, 2)
 
+    def test_a_ring_that_is_too_far_away(self):
+        # It weighs 2 to come to the ring of the sign a, and 3 to come from there back to the begin, the only end.
+        left = Machine("ab", [[(1, []), (2, [])], [(1, []), (0, [])], [(2, []), (2, [])]], [["e"], [], []])
+        right = Machine("ab", [[(2, []), (1, [])], [(1, []), (3, [])], [(2, []), (2, [])], [(0, []), (2, [])]],
+                        [["e"], [], [], []])
+        edits = Edits("ab", [("a", "b", 2), ("b", "ba", 3)])
+        for k in (0, 2, 3, 4):
+            paper = self.check(Rule(left, right), edits, k, ("e",), ())
+            self.assertEqual((paper.many, paper.columns), (0, ()))
+        for k in (5, 6, 30):
+            self.assertIsInstance(self.check(Rule(left, right), edits, k, ("e",), ()), Endless)
+
+    def test_ways_round_without_signs_on_the_first_side(self):
+        # The second text goes round three states at no weight; ways lead on from one of them, the end is at another one.
+        left = Machine("ab", [[(1, []), (2, [])], [(2, []), (0, [])], [(2, []), (2, [])]], [["e"], [], []])
+        for way_on in range(3):
+            for end in range(3):
+                rows = [[((at + 1) % 3, []), (4 if at == way_on else 3, [])] for at in range(3)]
+                right = Machine("ab", rows + [[(3, []), (3, [])], [(3, []), (0, [])]],
+                                [["e"] if at == end else [] for at in range(5)])
+                edits = Edits("ab", [("", "a", 0), ("ab", "bb", 1)])
+                for k in (0, 1, 2, 5):
+                    paper = self.check(Rule(left, right), edits, k, ("e",), ())
+                    self.assertEqual(paper.many, 2 * k)
+
     def test_weights_above_the_bound(self):
         edits = Edits("ab", [("a", "b", 31), ("", "a", 10 ** 30)])
         self.assertEqual(self.check(Rule(heads("ab", 1)), edits, 30).many, None)
