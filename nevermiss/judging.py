@@ -21,7 +21,7 @@ def is_right_tree(question, tree, is_right_leaf):
             return False
         # A key may be called leaf, too: the length tells what it is.
         if len(part) == 2:
-            if not is_right_leaf(barred, part[1]):
+            if part[0] != "leaf" or not is_right_leaf(barred, part[1]):
                 return False
         else:
             key, one, other = part

@@ -1,4 +1,4 @@
-"""[30], [31], [33], [34], [40], [41], [50], [51]: the errors of the functions that ask about all texts, in their order."""
+"""[30] to [34], [40], [41], [50], [51]: the errors of the functions that ask about all texts, in their order."""
 
 import itertools
 import unittest
@@ -25,7 +25,8 @@ KEYED = {
     "is_sure": lambda r, e, k, g, w, row: is_sure(r, e, k, TREE, given=g, wanted=w),
     "lowest": lambda r, e, k, g, w, row: lowest(r, e, given=g, wanted=w),
     "is_lowest": lambda r, e, k, g, w, row: is_lowest(r, e, Lowest(1, row, TREE), given=g, wanted=w),
-    "is_lowest without a weight": lambda r, e, k, g, w, row: is_lowest(r, e, Lowest(None, row, TREE), given=g, wanted=w),
+    "is_lowest without a weight": lambda r, e, k, g, w, row: is_lowest(r, e, Lowest(None, row, TREE), given=g,
+                                                                       wanted=w),
     "is_lowest without a tree": lambda r, e, k, g, w, row: is_lowest(r, e, Lowest(5, row, None), given=g, wanted=w),
     "longest": lambda r, e, k, g, w, row: longest(r, e, k, given=g, wanted=w),
     "is_longest": lambda r, e, k, g, w, row: is_longest(r, e, k, Longest(2, row, FAR_TREE), given=g, wanted=w),
@@ -97,14 +98,16 @@ class Errors(unittest.TestCase):
 
     def test_too_many_given(self):
         for name, ask in KEYED.items():
-            for given in (("f", "fa", "fb"), ["f", "fa", "fb", "n0"], ["f", "f", "f"], [None, "?", True], ("f", "fa", None)):
+            for given in (("f", "fa", "fb"), ["f", "fa", "fb", "n0"], ["f", "f", "f"], [None, "?", True],
+                          ("f", "fa", None)):
                 for wanted in (None, (), ["f"], ["?"]):
                     self.check(lambda: ask(RULE, EDITS, 1, given, wanted, ROW), TooMany, "what", "given")
 
     def test_bad_keys_that_are_strange(self):
         for name, ask in KEYED.items():
             for strange in STRANGE:
-                for given, wanted in (((strange,), None), ((strange,), ()), (["f", strange], None), ([strange, "f"], ["fa"]),
+                for given, wanted in (((strange,), None), ((strange,), ()), (["f", strange], None),
+                                      ([strange, "f"], ["fa"]),
                                       ([strange, "?"], ["??"]), ((), (strange,)), ((), ["f", strange, "?"]),
                                       (["f"], ["fa", "fb", strange]), (["f", "n0"], [strange, "fa", "fa"])):
                     self.check(lambda: ask(RULE, EDITS, 1, given, wanted, ROW), BadKeys, "key", strange)
@@ -126,7 +129,8 @@ class Errors(unittest.TestCase):
     def test_bad_keys_of_covers(self):
         for ask in (CHOOSING["covers"], CHOOSING["is_covers"]):
             for strange in STRANGE:
-                for one, other in (([strange], ["f"]), (("f", strange), ["?"]), ([strange, "?"], []), (["f"], ["f", strange]),
+                for one, other in (([strange], ["f"]), (("f", strange), ["?"]), ([strange, "?"], []),
+                                   (["f"], ["f", strange]),
                                    ((), (strange, None)), (["f", "fa"], [strange, "f", "f"])):
                     self.check(lambda: ask(RULE, EDITS, 1, one, other, ()), BadKeys, "key", strange)
             for one, other, key in ((["f", "fa", "f"], ["fb", "fb"], "f"), (["f"], ["fb", "fa", "fb", "fa"], "fb"),
@@ -161,7 +165,8 @@ class Errors(unittest.TestCase):
                 for due in itertools.combinations(flaws, many):
                     given = ["f", "fa", "fb"] if TooMany in due else ["f"]
                     wanted = ["fb", "?"] if BadKeys in due else ["n0"]
-                    self.check(lambda: ask(RULE, Edits("abc", []) if Unlike in due else EDITS, -1 if BadBound in due else 1,
+                    self.check(lambda: ask(RULE, Edits("abc", []) if Unlike in due else EDITS,
+                                           -1 if BadBound in due else 1,
                                            given, wanted, ("a", None) if BadColumn in due else ("a",)), due[0])
 
     def test_what_is_handed_in_stays(self):
@@ -171,7 +176,8 @@ class Errors(unittest.TestCase):
             self.assertEqual((given, wanted, row), (["n1"], ["fb", "fa"], ["a", 0, 1]))
 
     def test_behind_the_star_by_name_only(self):
-        for ask, own in ((sure, (3,)), (is_bad, (3, ROW)), (is_sure, (3, TREE)), (lowest, ()), (is_lowest, (Lowest(1, ROW, TREE),)),
+        for ask, own in ((sure, (3,)), (is_bad, (3, ROW)), (is_sure, (3, TREE)), (lowest, ()),
+                         (is_lowest, (Lowest(1, ROW, TREE),)),
                          (longest, (3,)), (is_longest, (3, Longest(2, ROW, FAR_TREE)))):
             ask(RULE, EDITS, *own)
             ask(RULE, EDITS, *own, wanted=["f"], given=["n0"])

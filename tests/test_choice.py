@@ -101,7 +101,8 @@ class MeetingsTold(unittest.TestCase):
     def test_kinds(self):
         paper = meetings(BOTH, PLAIN, 0)
         self.assertEqual((type(paper.met), type(paper.enough)), (list, list))
-        self.assertEqual({(type(pair), len(pair), type(pair[0])) for pair in paper.met + paper.enough}, {(tuple, 2, tuple)})
+        self.assertEqual({(type(pair), len(pair), type(pair[0])) for pair in paper.met + paper.enough},
+                         {(tuple, 2, tuple)})
         self.assertEqual({type(columns) for _, columns in paper.met}, {tuple})
         self.assertEqual({type(tree) for _, tree in paper.enough}, {tuple})
         self.assertIs(type(least_count(BOTH, PLAIN, 0)), int)
@@ -162,15 +163,18 @@ class MeetingsJudged(unittest.TestCase):
     def test_wrong_sets(self):
         right = meetings(BOTH, PLAIN, 0)
         for at, (keys, columns) in enumerate(right.met):
-            for wrong in (keys[::-1], keys + keys[-1:], keys[:1] + keys, keys[:1], keys[1:], (), keys + ("z",), ("?",) + keys,
+            for wrong in (keys[::-1], keys + keys[-1:], keys[:1] + keys, keys[:1], keys[1:], (), keys + ("z",),
+                          ("?",) + keys,
                           keys[:1] + ("n2",), ("f",), ("f", "fa", "fb", "n0", "n1"), ("", "f")):
                 if wrong != keys:
                     pairs = right.met[:at] + [(wrong, columns)] + right.met[at + 1:]
                     self.check(BOTH, PLAIN, 0, pairs, right.enough, False)
                     self.check(BOTH, PLAIN, 0, sorted(pairs), right.enough, False)
-            self.check(BOTH, PLAIN, 0, right.met[:at] + [(list(keys), list(columns))] + right.met[at + 1:], right.enough, True)
+            self.check(BOTH, PLAIN, 0, right.met[:at] + [(list(keys), list(columns))] + right.met[at + 1:],
+                       right.enough, True)
         for at, (keys, tree) in enumerate(right.enough):
-            for wrong in (keys[::-1], keys + keys[-1:], keys[:1] + keys, keys[:1], keys[1:], (), keys + ("z",), ("?",) + keys,
+            for wrong in (keys[::-1], keys + keys[-1:], keys[:1] + keys, keys[:1], keys[1:], (), keys + ("z",),
+                          ("?",) + keys,
                           ("f",), ("f", "fa", "fb", "n0", "n1"), ("", "f")):
                 if wrong != keys:
                     pairs = right.enough[:at] + [(wrong, tree)] + right.enough[at + 1:]
@@ -197,7 +201,8 @@ class MeetingsJudged(unittest.TestCase):
             for at, (keys, _) in enumerate(right.met):
                 for columns in oracle.rows_of_columns(edits, 3):
                     told = oracle.is_near(edits, k, columns) and oracle.shared(rule, edits, columns) == set(keys)
-                    self.check(rule, edits, k, right.met[:at] + [(keys, columns)] + right.met[at + 1:], right.enough, told)
+                    self.check(rule, edits, k, right.met[:at] + [(keys, columns)] + right.met[at + 1:], right.enough,
+                               told)
 
     def test_columns_and_trees_exchanged(self):
         for rule, edits, k, _, _ in oracle.questions(46, 120):
@@ -304,7 +309,8 @@ class CoversTold(unittest.TestCase):
     def test_empty_equal_and_within(self):
         keys = list(BOTH.all_keys)
         for k in (0, 9, None):
-            for one, other in ((keys, keys), (keys, keys[::-1]), (keys, keys[1:3]), (keys[:2], keys[:1]), (keys, []), ([], [])):
+            for one, other in ((keys, keys), (keys, keys[::-1]), (keys, keys[1:3]), (keys[:2], keys[:1]), (keys, []),
+                               ([], [])):
                 told = covers(BOTH, PLAIN, k, one, other)
                 self.assertIsInstance(told, Covers)
                 self.assertEqual(told.trees, [])

@@ -11,7 +11,8 @@ MOST = 10 ** 30
 GOOD = [("a", "", 2), ("ab", "ba", 1), ("", "bab", 0), ("bbb", "b", MOST)]
 NO_TRIPLES = [None, True, 7, "", "abc", "a", (), [], ("a",), ("a", "b"), ["a", "b"], ("a", "b", 1, 1), [["a", "b", 1]],
               (("a", "b", 1),), (("a", "b"), 1), ("a", "b", 1, None)]
-WRONG_SIDES = [None, True, False, 0, 1, (), ("a",), ["a"], [], "c", "ac", "abab", "aaaa", "A", " ", "a ", "\n", "\u00e4"]
+WRONG_SIDES = [None, True, False, 0, 1, (), ("a",), ["a"], [], "c", "ac", "abab", "aaaa", "A", " ", "a ", "\n",
+               "\u00e4"]
 WRONG_WEIGHTS = [None, True, False, -1, MOST + 1, 10 ** 31, "1", "", (), (1,), [1], []]
 OTHER_THINGS = [None, 0, "edits", (), GOOD, ("ab", tuple(GOOD))]
 
@@ -150,7 +151,8 @@ class Plain(unittest.TestCase):
                     self.assertIs(type(caught.exception.bound), type(wrong))
 
     def test_the_first_bad_bound(self):
-        for weights, bound in (((-1, -2, -3), -1), ((1, -2, -3), -2), ((1, 2, -3), -3), ((MOST, MOST + 1, True), MOST + 1)):
+        for weights, bound in (((-1, -2, -3), -1), ((1, -2, -3), -2), ((1, 2, -3), -3),
+                               ((MOST, MOST + 1, True), MOST + 1)):
             with self.assertRaises(BadBound) as caught:
                 Edits.plain("ab", *weights)
             self.assertEqual(caught.exception.bound, bound)
@@ -189,7 +191,8 @@ class Changed(unittest.TestCase):
 
 class Columns(unittest.TestCase):
     def test_texts_and_weighed(self):
-        for edits in (Edits("ba", GOOD), Edits.plain("ab", 1, MOST, 0), Edits("a", []), Edits("cab", [("c", "abc", 5)])):
+        for edits in (Edits("ba", GOOD), Edits.plain("ab", 1, MOST, 0), Edits("a", []),
+                      Edits("cab", [("c", "abc", 5)])):
             for columns in oracle.rows_of_columns(edits, 3):
                 x, y, weight = oracle.tell(edits, columns)
                 for told in (columns, list(columns)):
@@ -201,13 +204,15 @@ class Columns(unittest.TestCase):
     def test_plain_ones(self):
         edits = Edits("ab", [("a", "", 2), ("ab", "ba", 1)])
         self.assertEqual((edits.texts(["a", 1, 0]), edits.weighed(["a", 1, 0])), (("aaba", "aba"), 3))
-        self.assertEqual((edits.texts(columns=(1, "b", 1)), edits.weighed(columns=(1, "b", 1))), (("abbab", "babba"), 2))
+        self.assertEqual((edits.texts(columns=(1, "b", 1)), edits.weighed(columns=(1, "b", 1))),
+                         (("abbab", "babba"), 2))
         self.assertEqual((edits.texts([]), edits.weighed(())), (("", ""), 0))
         self.assertEqual((edits.texts([0]), edits.weighed([0] * 1000)), (("a", ""), 2000))
 
     def test_bad_column(self):
         edits = Edits("ab", GOOD)
-        wrongs = [None, True, False, "c", "z", "A", "", "ab", "ba", "aa", "aab", "0", 4, 5, -1, -4, 10 ** 30, -10 ** 30, " "]
+        wrongs = [None, True, False, "c", "z", "A", "", "ab", "ba", "aa", "aab", "0", 4, 5, -1, -4, 10 ** 30,
+                  -10 ** 30, " "]
         for wrong in wrongs:
             for ahead in ([], ["a"], [0, 3, "b"]):
                 for behind in ([], ["b", 2], [None, "c", 9, True]):

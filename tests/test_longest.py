@@ -170,7 +170,7 @@ class Told(unittest.TestCase):
             self.assertIsInstance(self.check(Rule(left, right), edits, k, ("e",), ()), Endless)
 
     def test_ways_round_without_signs_on_the_first_side(self):
-        # The second text goes round three states at no weight; ways lead on from one of them, the end is at another one.
+        # The second text goes round three states at no weight; ways lead on from one of them, the end is at one.
         left = Machine("ab", [[(1, []), (2, [])], [(2, []), (0, [])], [(2, []), (2, [])]], [["e"], [], []])
         for way_on in range(3):
             for end in range(3):
@@ -237,8 +237,10 @@ class Judged(unittest.TestCase):
             right = longest(rule, edits, k, given=given, wanted=wanted)
             if isinstance(right, Endless):
                 head, ring, tail = list(right.head), list(right.ring), list(right.tail)
-                papers = [Endless(head, ring * 2, tail), Endless(head + ring, ring, tail), Endless(head, ring, ring + tail),
-                          Endless(head, [], tail), Endless(head, ring, []), Endless([], ring, tail), Endless(tail, ring, head),
+                papers = [Endless(head, ring * 2, tail), Endless(head + ring, ring, tail),
+                          Endless(head, ring, ring + tail),
+                          Endless(head, [], tail), Endless(head, ring, []), Endless([], ring, tail),
+                          Endless(tail, ring, head),
                           Endless(head + ring[:1], ring[1:] + ring[:1], ring[1:] + tail), Endless(head, ring[1:], tail),
                           Endless(head, ring[:-1], tail), Endless(head + tail, ring, []), Endless([], [], [])]
                 for column in oracle.all_columns(edits):
@@ -250,7 +252,8 @@ class Judged(unittest.TestCase):
 
     def test_wrong_rings(self):
         rule, edits = Rule(heads("ab", 1)), Edits("ab", [("a", "b", 1), ("", "a", 0), ("b", "a", 0), ("a", "", 0)])
-        for head, ring, tail, told in (((0,), ("a",), (), True), ((0,), ("b", "a"), ("b",), True), ((0,), (2,), (), True),
+        for head, ring, tail, told in (((0,), ("a",), (), True), ((0,), ("b", "a"), ("b",), True),
+                                       ((0,), (2,), (), True),
                                        ((0,), (), (), False), ((0,), (1,), (), False), ((0,), (1, "a"), (), True),
                                        ((), (0,), (), False), ((), ("a",), (0,), False), ((0,), (0,), (), False),
                                        ((0,), (3,), (), True), ((0, 0), ("a",), (), False), ((2,), ("a",), (), True),
@@ -267,7 +270,8 @@ class Judged(unittest.TestCase):
         left = Machine("a", [[(1, [])], [(2, [])], [(2, ["k"])]], [[], [], []])
         right = Machine("a", [[(0, ["k"])]], [[]])
         rule, edits = Rule(left, right), Edits("a", [])
-        for head, ring, tail in ((2, 1, 0), (1, 1, 0), (0, 1, 0), (2, 1, 1), (3, 1, 0), (0, 2, 0), (1, 2, 0), (2, 2, 0)):
+        for head, ring, tail in ((2, 1, 0), (1, 1, 0), (0, 1, 0), (2, 1, 1), (3, 1, 0), (0, 2, 0), (1, 2, 0),
+                                 (2, 2, 0)):
             for given, wanted in (((), ("k",)), (("k",), ()), ((), ())):
                 self.check(rule, edits, 0, Endless(("a",) * head, ("a",) * ring, ("a",) * tail), given, wanted)
 
@@ -283,8 +287,10 @@ class Judged(unittest.TestCase):
         right = longest(rule, edits, 5)
         self.assertEqual(right.many, 3)
         columns = right.columns
-        for many, row, tree, told in ((3, columns, right.tree, True), (3, list(columns), oracle.as_lists(right.tree), True),
-                                      (None, None, right.tree, False), (3, None, right.tree, False), (4, columns, right.tree, False),
+        for many, row, tree, told in ((3, columns, right.tree, True),
+                                      (3, list(columns), oracle.as_lists(right.tree), True),
+                                      (None, None, right.tree, False), (3, None, right.tree, False),
+                                      (4, columns, right.tree, False),
                                       (None, columns, right.tree, False), (2, ("a", 0), right.tree, False),
                                       (1, (0,), right.tree, False), (3, ("b", "b", 0), right.tree, True),
                                       (3, ("b", "b", "b"), right.tree, False), (3, columns, DEAD, False),
@@ -293,14 +299,16 @@ class Judged(unittest.TestCase):
         # A room may be greater than it has to be, as long as all ahead of it have room for it.
         nodes = right.tree[1]
         for more in (0, 1):
-            wide = ("leaf", tuple([(p, q, flags, c, None if room is None else room + more) for p, q, flags, c, room in nodes]))
+            wide = ("leaf", tuple([(p, q, flags, c, None if room is None else room + more)
+                                   for p, q, flags, c, room in nodes]))
             self.assertIs(is_longest(rule, edits, 5, Longest(3, columns, wide)), more == 0)
 
     def test_many_is_an_integer(self):
         rule, edits = Rule(sized("ab", 1)), Edits("ab", [("a", "", 1)])
         right = longest(rule, edits, 1)
         self.assertEqual(right.many, 1)
-        for many, told in ((1, True), (True, False), (None, False), (0, False), (False, False), (2, False), (-1, False)):
+        for many, told in ((1, True), (True, False), (None, False), (0, False), (False, False), (2, False),
+                           (-1, False)):
             self.assertIs(is_longest(rule, edits, 1, Longest(many, right.columns, right.tree)), told)
 
     def test_dead_nodes(self):
@@ -312,7 +320,8 @@ class Judged(unittest.TestCase):
                             (((0, 0, (), 0, None), (0, 0, (), -1, None)), False)):
             self.assertIs(is_longest(rule, edits, 3, Longest(None, None, ("leaf", nodes))), told, msg=repr(nodes))
         self.assertFalse(is_longest(rule, edits, 4, Longest(None, None, DEAD)))
-        self.assertTrue(is_longest(rule, edits, 4, Longest(None, None, ("leaf", ((0, 0, (), 0, None), (0, 0, (), 4, None))))))
+        self.assertTrue(is_longest(rule, edits, 4,
+                                   Longest(None, None, ("leaf", ((0, 0, (), 0, None), (0, 0, (), 4, None))))))
         # An end that is full and not barred has to be at a node with a room.
         self.assertFalse(is_longest(rule, Edits("ab", []), 3, Longest(None, None, DEAD), wanted=()))
 

@@ -60,7 +60,8 @@ class Told(unittest.TestCase):
     def test_plain_ones(self):
         edits = Edits.plain("ab", 9, 9, 1)
         for machine, weight in ((pieces("ab", 2), 1), (sized("ab", 3), 9), (heads("ab", 1), 1), (sized("ab", 0), None),
-                                (beside(sized("ab", 1), heads("ab", 1)), 9), (beside(sized("ab", 2), heads("ab", 0)), None)):
+                                (beside(sized("ab", 1), heads("ab", 1)), 9),
+                                (beside(sized("ab", 2), heads("ab", 0)), None)):
             paper = lowest(Rule(machine), edits)
             self.assertEqual(paper.weight, weight)
             if weight is None:
@@ -153,7 +154,7 @@ class Judged(unittest.TestCase):
                            for tree in oracle.changed_trees(dice, rule, given, right.tree, 10)]
                 papers.append(Lowest(right.weight, right.columns, oracle.as_lists(right.tree)))
             for paper in papers:
-                if not (paper.columns and max([at for at in paper.columns if isinstance(at, int)], default=-1) >= len(edits.rows)):
+                if paper.columns is None or set(paper.columns) <= set(oracle.all_columns(edits)):
                     found[self.check(rule, edits, paper, given, wanted, least)] += 1
         self.assertGreater(min(found.values()), 300)
 
@@ -162,7 +163,8 @@ class Judged(unittest.TestCase):
         rule = Rule(pieces("ab", 2))
         right = lowest(rule, edits)
         self.assertEqual(right.weight, 1)
-        for weight, columns, tree, told in ((1, right.columns, right.tree, True), (None, right.columns, right.tree, False),
+        for weight, columns, tree, told in ((1, right.columns, right.tree, True),
+                                            (None, right.columns, right.tree, False),
                                             (1, None, right.tree, False), (1, right.columns, None, False),
                                             (None, None, right.tree, False), (None, None, None, False),
                                             (1, list(right.columns), oracle.as_lists(right.tree), True),
@@ -172,7 +174,8 @@ class Judged(unittest.TestCase):
             self.assertIs(is_lowest(rule, edits, Lowest(weight, columns, tree)), told)
         rule = Rule(sized("ab", 0))
         right = lowest(rule, edits)
-        for weight, columns, tree, told in ((None, None, right.tree, True), (None, None, LEAF, True), (None, None, None, False),
+        for weight, columns, tree, told in ((None, None, right.tree, True), (None, None, LEAF, True),
+                                            (None, None, None, False),
                                             (0, (), None, False), (0, None, LEAF, False), (None, (), LEAF, False),
                                             (5, (0,), LEAF, False), (None, None, ("leaf", ()), False)):
             self.assertIs(is_lowest(rule, edits, Lowest(weight, columns, tree)), told)
@@ -183,7 +186,8 @@ class Judged(unittest.TestCase):
         self.assertEqual(right.weight, 5)
         for k, told in ((4, True), (3, True), (0, True)):
             tree = sure(rule, edits, k).tree
-            self.assertIs(is_lowest(rule, edits, Lowest(5, right.columns, tree)), oracle.is_right_tree(rule, edits, 4, tree))
+            self.assertIs(is_lowest(rule, edits, Lowest(5, right.columns, tree)),
+                          oracle.is_right_tree(rule, edits, 4, tree))
             self.assertIs(is_lowest(rule, edits, Lowest(5, right.columns, tree)), told)
         # A row that weighs more is bad, too, but there is no right tree for the bound below it.
         more = (1,)

@@ -20,7 +20,7 @@ def rows_tried(edits):
 
 
 def delayed(steps):
-    """A rule: at each step the first sign gives one of two keys, to the second text one sign later: no column has both."""
+    """A rule: at each step the sign gives one of two keys, to the second text one sign later: no column has both."""
     names = ["k%d%s" % (step, sign) for step in range(steps) for sign in "ab"]
     rows = [[(step + 1, [names[2 * step]]), (step + 1, [names[2 * step + 1]])] for step in range(steps)]
     left = Machine("ab", rows + [[(steps, []), (steps, [])]], [[]] * (steps + 1))
@@ -103,7 +103,8 @@ class Told(unittest.TestCase):
 
     def test_plain_rules(self):
         edits = Edits.plain("ab", 9, 9, 1)
-        for machine, k, is_missed in ((pieces("ab", 2), 0, False), (pieces("ab", 2), 1, True), (sized("ab", 3), 8, False),
+        for machine, k, is_missed in ((pieces("ab", 2), 0, False), (pieces("ab", 2), 1, True),
+                                      (sized("ab", 3), 8, False),
                                       (sized("ab", 3), 9, True), (heads("ab", 1), 0, False), (heads("ab", 1), 1, True),
                                       (heads("ab", 0), None, False), (counted("ab", "a", 2), 1, True)):
             self.assertIs(isinstance(self.check(Rule(machine), edits, k, (), None), Bad), is_missed)
@@ -149,7 +150,8 @@ class Told(unittest.TestCase):
     def test_equal_calls(self):
         for rule, edits, k, given, wanted in oracle.questions(5, 80):
             copies = (Rule(Machine(rule.left.signs, rule.left.rows, rule.left.ends),
-                           Machine(rule.right.signs, rule.right.rows, rule.right.ends)), Edits(edits.signs, list(edits.rows)))
+                           Machine(rule.right.signs, rule.right.rows, rule.right.ends)),
+                           Edits(edits.signs, list(edits.rows)))
             told = sure(rule, edits, k, given=given, wanted=wanted)
             again = sure(*copies, k, given=tuple(given), wanted=None if wanted is None else tuple(wanted))
             self.assertIs(type(told), type(again))
@@ -191,7 +193,8 @@ class Judged(unittest.TestCase):
     def test_what_is_shared_beside_is_of_no_importance(self):
         rule, edits = Rule(beside(heads("ab", 1), sized("ab", 1))), Edits("ab", [("a", "b", 3)])
         for given, wanted, told in (((), ("n1",), False), ((), ("n0",), True), (("n1",), ("fa",), True),
-                                    (("fa",), ("n1",), False), ((), (), True), (("n1",), None, True), ((), None, False)):
+                                    (("fa",), ("n1",), False), ((), (), True), (("n1",), None, True),
+                                    ((), None, False)):
             self.assertIs(is_bad(rule, edits, 3, [0], given=given, wanted=wanted), told)
 
     def test_trees_with_one_thing_changed(self):
@@ -273,14 +276,17 @@ class Judged(unittest.TestCase):
     def test_plain_trees(self):
         rule, edits = Rule(sized("ab", 0)), Edits.plain("ab", 9, 9, 1)
         right = ("leaf", ((0, 0, (), 0),))
-        for tree, told in ((right, True), (["leaf", [[0, 0, [], 0]]], True), (("leaf", ()), False), (("leaf", []), False),
+        for tree, told in ((right, True), (["leaf", [[0, 0, [], 0]]], True), (("leaf", ()), False),
+                           (("leaf", []), False),
                            (("leaf", ((0, 0, (), 1),)), False), (("leaf", ((0, 0, (), -1),)), False),
                            (("leaf", ((0, 0, (), 0), (0, 0, (), 0))), False), (("leaf", ((0, 0, (0,), 0),)), False),
                            (("leaf", ((0, 0, (0, 0), 0),)), False), (("leaf", ((0, 1, (), 0),)), False),
-                           (("leaf", ((0, 0, (), 0), (0, 1, (), 0))), False), (("leaf", ((0, 0, (), 0), (-1, 0, (), 0))), False),
+                           (("leaf", ((0, 0, (), 0), (0, 1, (), 0))), False),
+                           (("leaf", ((0, 0, (), 0), (-1, 0, (), 0))), False),
                            (("n0", right, right), True), (["n0", right, ["leaf", [(0, 0, (), 0)]]], True),
                            (("n0", right, ("n0", right, right)), False), (("n1", right, right), False),
-                           (("", right, right), False), (("n0", right, ("leaf", ())), False),
+                           (("", right, right), False), (("n0", right[1]), False), (("", right[1]), False),
+                           (("n0", right, ("leaf", ())), False),
                            (("n0", ("leaf", ()), right), False)):
             self.assertIs(is_sure(rule, edits, 5, tree), told, msg=repr(tree))
 
