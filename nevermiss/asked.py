@@ -1,7 +1,7 @@
-"""What is checked before all texts are asked about: signs, the bound, keys."""
+"""What is checked before something is asked: signs, texts, bounds, keys."""
 
 from nevermiss.basics import is_natural, same_signs
-from nevermiss.errors import BadBound, BadKeys, TooMany, Unlike
+from nevermiss.errors import BadBound, BadKeys, BadSign, TooMany, Unlike
 from nevermiss.ground import Ground
 from nevermiss.question import Question
 
@@ -9,10 +9,17 @@ MOST_BOUND = 10 ** 40
 MOST_GIVEN = 2
 
 
-def check_signs(rule, edits):
-    """Raises Unlike if rule and edits have not the same signs."""
-    if not same_signs(rule.signs, edits.signs):
+def check_signs(one, other):
+    """Raises Unlike if two things, as a rule and edits, have not the same signs."""
+    if not same_signs(one.signs, other.signs):
         raise Unlike()
+
+
+def check_text(signs, text):
+    """Raises BadSign for the first letter of a text that is no sign."""
+    for place, letter in enumerate(text):
+        if letter not in signs:
+            raise BadSign(place)
 
 
 def check_bound(k):

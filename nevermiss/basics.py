@@ -37,6 +37,12 @@ def is_key(word):
     return all([letter in KEY_LETTERS for letter in word])
 
 
+def standing(text, words):
+    """For each place of a text, its end too, the words that stand there, as bits: the lowest one for the first word."""
+    return [sum([1 << at for at, word in enumerate(words) if text.startswith(word, place)])
+            for place in range(len(text) + 1)]
+
+
 def key_list(given):
     """Keys in any order, with doubles, as a list of keys is told."""
     return tuple(sorted(set(given)))

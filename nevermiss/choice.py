@@ -2,7 +2,7 @@
 
 from nevermiss.asked import check_bound, check_keys, check_signs
 from nevermiss.ground import Ground
-from nevermiss.hitting import hits_too, least_hits, least_sets, single_bits
+from nevermiss.hitting import borders, least_hits, least_sets
 from nevermiss.judging import is_light_tree
 from nevermiss.lightways import bad_or_tree
 from nevermiss.question import Question
@@ -29,8 +29,13 @@ def meetings(rule, edits, k):
     check_signs(rule, edits)
     check_bound(k)
     ground = Ground(rule, edits)
-    rows, trees = borders(ground, k)
-    return Meetings(by_keys(ground, rows), by_keys(ground, trees))
+
+    def ask(bits):
+        columns, tree = bad_or_tree(Question(ground, (), ground.named(bits)), k)
+        return (None, tree) if columns is None else (ground.shared(columns), columns)
+
+    rows, trees = borders(ground.every, ask)
+    return Meetings(ground.by_keys(rows), ground.by_keys(trees))
 
 
 def least_count(rule, edits, k):
@@ -56,35 +61,6 @@ def is_meetings(rule, edits, k, paper):
         if not is_light_tree(Question(ground, (), keys), tree, k):
             return False
     return True
-
-
-def borders(ground, k):
-    """Two dicts: from the least sets of keys that are met to rows, from the least ones that are enough to trees.
-
-    The sets are told by bits. A least set that hits all sets found so far is enough, or a row tells texts that share
-    none of it: one more set is found. If all such sets are enough, they are all there are.
-    """
-    rows = {}
-    trees = {}
-    hits = [0]
-    # Where texts miss one another, asking for all keys at first tells it at once.
-    new = [ground.bits(ground.all_keys)]
-    while new:
-        bits = max(new, key=lambda wanted: (len(single_bits(wanted)), wanted))
-        columns, tree = bad_or_tree(Question(ground, (), ground.named(bits)), k)
-        if columns is None:
-            trees[bits] = tree
-        else:
-            found = ground.shared(columns)
-            rows[found] = columns
-            hits = hits_too(hits, found)
-        new = [hit for hit in hits if hit not in trees]
-    return {bits: rows[bits] for bits in least_sets(list(rows))}, {bits: trees[bits] for bits in hits}
-
-
-def by_keys(ground, proofs):
-    """The pairs of a dict from sets of keys as bits, ascending by keys."""
-    return sorted([(ground.named(bits), proofs[bits]) for bits in proofs], key=lambda pair: pair[0])
 
 
 def told_sets(ground, sets):

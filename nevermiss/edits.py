@@ -51,6 +51,10 @@ class Edits:
             return column, column, 0
         return self.rows[column]
 
+    def all_columns(self):
+        """All columns that there are: the signs, then the indexes of the edits."""
+        return (*self.signs, *list(range(len(self.rows))))
+
     def checked(self, columns):
         """A row of columns as a tuple; raises BadColumn for the first element that is no column."""
         for index, column in enumerate(columns):

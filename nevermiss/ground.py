@@ -12,7 +12,8 @@ class Ground:
         self.rule = rule
         self.edits = edits
         self.all_keys = rule.all_keys
-        self.columns = (*edits.signs, *list(range(len(edits.rows))))
+        self.every = (1 << len(rule.all_keys)) - 1
+        self.columns = edits.all_columns()
         self.many_left = len(rule.left.rows)
         self.many_right = len(rule.right.rows)
         self.sides = [edits.side(column) for column in self.columns]
@@ -37,6 +38,11 @@ class Ground:
     def named(self, bits):
         """The keys that bits tell, ascending."""
         return tuple([self.all_keys[at] for at in self.indexes(bits)])
+
+    def by_keys(self, papers):
+        """The pairs (keys, paper) of a dict from sets of keys as bits, ascending by keys."""
+        named = {self.named(bits): papers[bits] for bits in papers}
+        return [(keys, named[keys]) for keys in sorted(named)]
 
     def indexes(self, bits):
         """The indexes of the keys that the lowest bits tell."""

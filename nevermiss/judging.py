@@ -38,13 +38,7 @@ def is_light_tree(question, tree, k):
 
     def is_right_leaf(barred, nodes):
         numbers = told_numbers(question, nodes)
-        if numbers is None or numbers.get(0) != 0:
-            return False
-        ways = Ways(question, barred)
-        for place in list(numbers):
-            if ways.is_end(place) or not is_closed(ways, numbers, place, k):
-                return False
-        return True
+        return numbers is not None and are_low(Ways(question, barred), numbers, k)
 
     return is_right_tree(question, tree, is_right_leaf)
 
@@ -60,8 +54,29 @@ def told_numbers(question, nodes):
     return numbers
 
 
+def paired_numbers(places, many, width):
+    """A dict from pairs (i, j) to numbers as one from i * width + j; None if a pair is none or a number is below 0."""
+    numbers = {}
+    for pair, number in places.items():
+        i, j = pair
+        if not is_natural(i) or i >= many or not is_natural(j) or j >= width or not is_natural(number):
+            return None
+        numbers[i * width + j] = number
+    return numbers
+
+
+def are_low(ways, numbers, k):
+    """Whether the numbers of places prove that no way within the bound k leads to an end."""
+    if numbers.get(0) != 0:
+        return False
+    for place in list(numbers):
+        if ways.is_end(place) or not is_closed(ways, numbers, place, k):
+            return False
+    return True
+
+
 def is_closed(ways, numbers, place, k):
-    """Whether each way from a place on leads to a node with a number as small as it has to be."""
+    """Whether each way from a place on leads to a place with a number as small as it has to be."""
     number = numbers[place]
     for to, weight, _, _ in ways.ahead(place):
         if k is None or number + weight <= k:

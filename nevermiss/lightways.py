@@ -1,9 +1,8 @@
 """Light ways: the least weights with which places can be come to, and the lightest way to an end."""
 
-from heapq import heappop, heappush
-
 from nevermiss.dividing import Leaf, first_bad, told_tree
-from nevermiss.ways import Ways, way_back
+from nevermiss.spread import Spread
+from nevermiss.ways import Ways
 
 
 def bad_or_tree(question, limit):
@@ -26,19 +25,30 @@ def bad_or_tree(question, limit):
 def least_bad(question):
     """The least weight of a bad row, such a row, and a right tree for the bound below; None where there is none."""
     most = question.heaviest()
+    bad, root = lightest_bad(question, most)
+    if bad is None:
+        return None, None, light_tree(question, root, most)
+    tree = None if bad.worth == 0 else light_tree(question, root, bad.worth - 1)
+    return bad.worth, question.ground.in_columns(bad.row), tree
+
+
+def lightest_row(question, limit):
+    """A bad row of the least weight, None if there is none within the limit."""
+    bad, _ = lightest_bad(question, limit)
+    return None if bad is None else question.ground.in_columns(bad.row)
+
+
+def lightest_bad(question, limit):
+    """The leaf with the lightest bad row within a limit, None if there is none, and where the division began."""
 
     def look_on(barred):
-        return look(question, barred, most)
+        return look(question, barred, limit)
 
     def lightest_way(leaf):
         return leaf.worth, len(leaf.common)
 
     root = look_on(0)
-    bad = first_bad(question, root, look_on, lightest_way)
-    if bad is None:
-        return None, None, light_tree(question, root, most)
-    tree = None if bad.worth == 0 else light_tree(question, root, bad.worth - 1)
-    return bad.worth, question.ground.in_columns(bad.row), tree
+    return first_bad(question, root, look_on, lightest_way), root
 
 
 def light_tree(question, root, limit):
@@ -62,54 +72,7 @@ def look(question, barred, limit):
     limit weights do not matter, and all numbers are 0.
     """
     spread = Spread(Ways(question, barred), limit)
-    while spread.layer:
-        end = spread.grow()
-        if end is not None:
-            return Leaf(question, barred, way_back(spread.came, end)[::-1], spread.number, spread.numbers)
-        spread.go_on()
-    return Leaf(question, barred, None, None, spread.numbers)
-
-
-class Spread:
-    """The places that are come to from the first one on, in layers of equal numbers."""
-
-    def __init__(self, ways, limit):
-        self.ways = ways
-        self.limit = limit
-        self.numbers = {0: 0}
-        self.came = {0: None}
-        self.layer = [0]
-        self.number = 0
-        self.queue = []
-
-    def grow(self):
-        """Adds to the layer what ways without a weight come to; stops at a full end and tells it."""
-        numbers, number, limit = self.numbers, self.number, self.limit
-        at = 0
-        while at < len(self.layer):
-            place = self.layer[at]
-            if self.ways.is_end(place):
-                return place
-            for to, weight, _, column in self.ways.ahead(place):
-                if to not in numbers:
-                    if weight == 0 or limit is None:
-                        self.take(to, place, column)
-                    elif number + weight <= limit:
-                        heappush(self.queue, (number + weight, to, place, column))
-            at += 1
-        return None
-
-    def go_on(self):
-        """Begins the next layer, with the next place that is new; there is none behind the limit."""
-        self.layer = []
-        while self.queue and not self.layer:
-            number, to, place, column = heappop(self.queue)
-            if to not in self.numbers:
-                self.number = number
-                self.take(to, place, column)
-
-    def take(self, to, place, column):
-        """Takes a new place into the layer, that is come to from another place by a column."""
-        self.numbers[to] = self.number
-        self.came[to] = (place, column)
-        self.layer.append(to)
+    end = spread.find_end()
+    if end is None:
+        return Leaf(question, barred, None, None, spread.numbers)
+    return Leaf(question, barred, spread.row_to(end), spread.number, spread.numbers)

@@ -20,7 +20,7 @@ class Tour:
         self.leads = leads
         self.order = {}
         self.lowest = {}
-        self.tried = {}
+        self.used = {}
         self.open_places = []
         self.told = {}
         self.parts = []
@@ -31,9 +31,9 @@ class Tour:
         self.enter(root)
         while path:
             place = path[-1]
-            if self.tried[place] < len(self.leads[place]):
-                to = self.leads[place][self.tried[place]]
-                self.tried[place] += 1
+            if self.used[place] < len(self.leads[place]):
+                to = self.leads[place][self.used[place]]
+                self.used[place] += 1
                 if to not in self.order:
                     path.append(to)
                     self.enter(to)
@@ -49,7 +49,7 @@ class Tour:
         """Numbers a new place."""
         self.order[place] = len(self.order)
         self.lowest[place] = self.order[place]
-        self.tried[place] = 0
+        self.used[place] = 0
         self.open_places.append(place)
 
     def leave(self, place):

@@ -178,6 +178,26 @@ class Form(unittest.TestCase):
                 if isinstance(node, ast.BinOp) and isinstance(node.op, ast.Pow):
                     self.right(isinstance(node.right, ast.Constant), path, node, "L27: an exponent")
 
+    def test_finally(self):
+        for path, text, tree in self.each():
+            for node in ast.walk(tree):
+                if isinstance(node, ast.Try):
+                    for part in [inner for kept in node.finalbody for inner in ast.walk(kept)]:
+                        allowed = (ast.If, ast.Assign, ast.Tuple, ast.Name, ast.Attribute, ast.Compare, ast.Is,
+                                   ast.Constant, ast.Load, ast.Store)
+                        self.right(isinstance(part, allowed), path, part, "L6: finally")
+
+    def test_operators(self):
+        # Operators and what is told by len, == and the like change nothing.
+        for path, text, tree in self.each():
+            for node in ast.walk(tree):
+                if isinstance(node, ast.FunctionDef) and node.name in DUNDERS - {"__init__"}:
+                    for part in ast.walk(node):
+                        stores = isinstance(part, (ast.Attribute, ast.Subscript)) and isinstance(part.ctx, ast.Store)
+                        changes = isinstance(part, ast.Call) and isinstance(part.func, ast.Attribute) and (
+                            part.func.attr in ("append", "pop", "clear", "extend", "insert", "remove", "update"))
+                        self.right(not stores and not changes, path, part, "L5, L28: operators")
+
     def test_calls_and_attributes(self):
         trees = list(self.each())
         own = {node.name for path, text, tree in trees for node in ast.walk(tree) if isinstance(node, ast.FunctionDef)}
@@ -241,7 +261,11 @@ class Form(unittest.TestCase):
                 for part in methods:
                     self.right(part.name not in stored, path, part, "L18: a method and an attribute")
                     plain = [name.id for name in part.decorator_list]
-                    self.right(plain in ([], ["classmethod"], ["staticmethod"]), path, part, "L5: decorators")
+                    self.right(plain in ([], ["classmethod"], ["staticmethod"], ["property"]), path, part,
+                               "L5: decorators")
+                    if plain == ["property"]:
+                        assigns = [kind for kind in ast.walk(part) if isinstance(kind, (ast.Assign, ast.AugAssign))]
+                        self.right(not assigns and len(part.args.args) == 1, path, part, "L5: properties")
             for node in tree.body:
                 if isinstance(node, ast.FunctionDef):
                     self.right(not node.decorator_list, path, node, "L4")
@@ -263,6 +287,13 @@ class Form(unittest.TestCase):
             "sure": ["Bad", "Sure", "sure", "is_bad", "is_sure", "Lowest", "lowest", "is_lowest"],
             "longest": ["Longest", "Endless", "longest", "is_longest"],
             "choice": ["Meetings", "meetings", "least_count", "is_meetings", "Covers", "covers", "is_covers"],
+            "same": ["least", "parted", "silent", "giving"],
+            "tables": ["weight_of", "columns_of", "bar_of", "is_bar", "Table", "Table.__getitem__",
+                       "Table.__contains__", "Table.__len__", "Table.__iter__", "Table.__eq__", "Table.near",
+                       "Table.near_text", "Table.found", "Table.shelf", "Table.missed", "Table.idle"],
+            "desk": ["Desk", "Desk.ask", "Desk.tried", "Desk.put", "Desk.take", "Desk.exchange", "Desk.reprice",
+                     "Desk.widen", "Desk.undo", "Desk.attempt", "Desk.__len__"],
+            "onetext": ["Miss", "miss_of", "fence_of", "is_fence", "near_sets", "lacks", "risks", "mended"],
         }
         for path, text, tree in self.each():
             own = set()
